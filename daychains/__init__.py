@@ -1,0 +1,1 @@
+"""Daychains: rules that move dates through several calendars."""

@@ -1,0 +1,46 @@
+"""The examples that the document prints for the modules that are there, and those of README.md."""
+
+import doctest
+import pathlib
+import unittest
+
+from daychains.calendars import Calendar
+from daychains.errors import ParseError
+from daychains.rules import is_office, is_rule, joined, offices_in, reduced, working_days
+
+
+class Examples(unittest.TestCase):
+    def test_calendar(self):
+        ldn = Calendar("ooooo--", closed=[(7, 7)])
+        self.assertEqual([ldn.is_open(4), ldn.is_open(5), ldn.next_open(5), ldn.last_open(7),
+                          ldn == Calendar("ooooo--").with_closed(7, 7)], [True, False, 8, 4, True])
+
+    def test_numbered_days(self):
+        ny = Calendar("ooooo--")
+        self.assertEqual([ny.nth_open(4, 2), ny.nth_open(0, 5 * 10 ** 9), ny.count_open(0, 13)], [8, 7000000000, 10])
+
+    def test_judges_of_rules(self):
+        self.assertEqual([is_office("ny"), is_office("+"), is_rule(["ny", "+", "ny"]), is_rule(("ny",))],
+                         [True, False, True, False])
+
+    def test_rules(self):
+        self.assertEqual([reduced(["ny", "ny", "+", "ldn", "ldn"]), working_days("ny", 2),
+                          joined(["ny"], ["ny", "ldn"]), offices_in(["b", "+", "a"])],
+                         [["ny", "+", "ldn"], ["ny", "+", "ny", "+", "ny"], ["ny", "ldn"], ["a", "b"]])
+
+    def test_notation_of_calendars(self):
+        self.assertEqual(Calendar.read("ooooo-- closed 7 7 opened -3 5"),
+                         Calendar("ooooo--", closed=[(7, 7)], opened=[(-3, 5)]))
+        for text in ["ooooo-- closed 7", "o closed 7 5"]:
+            with self.assertRaises(ParseError) as caught:
+                Calendar.read(text)
+            self.assertEqual(caught.exception.index, 3)
+
+    def test_readme(self):
+        readme = pathlib.Path(__file__).resolve().parent.parent / "README.md"
+        failed, tried = doctest.testfile(str(readme), module_relative=False)
+        self.assertEqual((failed, tried > 0), (0, True))
+
+
+if __name__ == "__main__":
+    unittest.main()
