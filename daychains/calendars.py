@@ -101,6 +101,19 @@ class Calendar:
         closed = without(self._closed, [(first, last)])
         return Calendar(self._pattern, closed=closed, opened=self._opened + [(first, last)])
 
+    def signs_at(self, day):
+        """Return the signs that decide on the day, repeated as a pattern is, and the first day with others, or None.
+
+        In a closed stretch that is one sign for closed, in an opened one it is one for open.
+        """
+        at = not_above(self._firsts, day)
+        if at > 0 and day <= self._pieces[at - 1][1]:
+            _, last, each = self._pieces[at - 1]
+            return ("o" if each == 1 else "-"), last + 1
+        if at == len(self._firsts):
+            return self._pattern, None
+        return self._pattern, self._firsts[at]
+
     def __eq__(self, other):
         if not isinstance(other, Calendar):
             return False

@@ -18,10 +18,15 @@ def is_rule(value):
     return isinstance(value, list) and all([_is_letter(entry) for entry in value])
 
 
+def check_rule(value):
+    """Raise InvalidRule for a value that is not a rule."""
+    if not is_rule(value):
+        raise InvalidRule("a rule is a list of letters")
+
+
 def reduced(rule):
     """Return the rule in which of neighbouring equal offices only one is kept."""
-    if not is_rule(rule):
-        raise InvalidRule("a rule is a list of letters")
+    check_rule(rule)
     kept = []
     for letter in rule:
         if letter == "+" or not kept or kept[-1] != letter:
@@ -31,8 +36,7 @@ def reduced(rule):
 
 def offices_in(rule):
     """Return the ascending list of the different offices of the rule."""
-    if not is_rule(rule):
-        raise InvalidRule("a rule is a list of letters")
+    check_rule(rule)
     return sorted({letter for letter in rule if letter != "+"})
 
 

@@ -1,5 +1,6 @@
 """Calendars straight from their definition, to compare the program with."""
 
+import itertools
 import random
 
 from daychains.calendars import Calendar
@@ -93,3 +94,35 @@ def days_about(source, model, number):
     ends = [day for stretch in model.closed + model.opened for day in stretch] or [0]
     days += [source.choice(ends) + source.randint(-9, 9) for _ in range(number)]
     return days
+
+
+def walked(calendars, rule, day):
+    """Move the day by the rule day by day; the calendars may be models too."""
+    for letter in rule:
+        if letter == "+":
+            day += 1
+            continue
+        while not calendars[letter].is_open(day):
+            day += 1
+    return day
+
+
+def some_rule(source, letters="ab+", most=12):
+    return [source.choice(letters) for _ in range(source.randint(0, most))]
+
+
+def all_rules(letters, most):
+    """Return all rules of these letters with at most so many letters."""
+    return [list(rule) for size in range(most + 1) for rule in itertools.product(letters, repeat=size)]
+
+
+def spells(indices, rule, other):
+    """Return whether the indices spell the rule, straight from the definition."""
+    ascending = all(low < high for low, high in zip(indices, indices[1:]))
+    return ascending and [other[at] for at in indices] == rule
+
+
+def spellings(rule, other):
+    """Return all lists of indices of the other rule that spell the rule."""
+    found = map(list, itertools.combinations(range(len(other)), len(rule)))
+    return [indices for indices in found if spells(indices, rule, other)]

@@ -6,6 +6,9 @@ import unittest
 
 from daychains.calendars import Calendar
 from daychains.errors import ParseError
+from daychains.latest import latest_never_later, latest_same, normal_rules
+from daychains.moves import moved, repeated, repeats_to, round_of, stops
+from daychains.order import counterexample, indices_in, never_later, same_days, shows_later
 from daychains.rules import is_office, is_rule, joined, offices_in, reduced, working_days
 
 
@@ -35,6 +38,31 @@ class Examples(unittest.TestCase):
             with self.assertRaises(ParseError) as caught:
                 Calendar.read(text)
             self.assertEqual(caught.exception.index, 3)
+
+    def test_moves(self):
+        offices = {"ny": Calendar("ooooo--"), "ldn": Calendar("ooooo--", closed=[(7, 7)])}
+        self.assertEqual([moved(offices, ["ny", "+", "ny", "ldn"], 4),
+                          list(stops(offices, ["ny", "+", "ny", "ldn"], 4))], [8, [4, 4, 5, 7, 8]])
+
+    def test_repetitions(self):
+        offices = {"ny": Calendar("ooooo--")}
+        rule = ["ny", "+", "ny"]
+        self.assertEqual([repeated(offices, rule, 0, 5 * 10 ** 9), repeats_to(offices, rule, 0, 12),
+                          round_of(offices, rule, 0), round_of(offices, ["ny"], 6)], [7000000000, 10, (5, 7), (1, 0)])
+
+    def test_order(self):
+        self.assertEqual([never_later(["ny", "+", "ny"], ["ny", "ldn", "+", "ldn", "ny"]),
+                          indices_in(["ny", "+", "ny"], ["ny", "ldn", "+", "ldn", "ny"])], [True, [0, 2, 4]])
+        self.assertEqual([never_later(["a", "b"], ["b", "a"]), same_days(["a", "a", "+"], ["a", "+"])], [False, True])
+
+    def test_counterexamples(self):
+        self.assertEqual([shows_later(["a", "b"], ["b", "a"], counterexample(["a", "b"], ["b", "a"])),
+                          counterexample(["a"], ["b", "a"])], [True, None])
+
+    def test_latest(self):
+        self.assertEqual([normal_rules([["a"], ["a", "b"], ["b", "a"], ["b"]]),
+                          latest_never_later([["a"], ["b"]], [["a", "b"]])], [[["a", "b"], ["b", "a"]], True])
+        self.assertEqual(latest_same([["a", "b"], ["b"]], [["a", "b", "b"]]), True)
 
     def test_readme(self):
         readme = pathlib.Path(__file__).resolve().parent.parent / "README.md"

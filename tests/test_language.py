@@ -3,6 +3,7 @@
 import ast
 import builtins
 import importlib
+import inspect
 import pathlib
 import unittest
 
@@ -128,6 +129,17 @@ class Interface(unittest.TestCase):
     LISTED = {
         "calendars": ["Calendar"],
         "rules": ["is_office", "is_rule", "reduced", "offices_in", "joined", "working_days"],
+        "moves": ["moved", "stops", "repeated", "repeats_to", "round_of"],
+        "order": ["never_later", "same_days", "indices_in", "counterexample", "shows_later"],
+        "latest": ["normal_rules", "latest_never_later", "latest_same", "latest_day", "latest_counterexample"],
+    }
+    SIGNATURES = {
+        "moved": "(calendars, rule, day)", "stops": "(calendars, rule, day)",
+        "repeated": "(calendars, rule, day, times)", "repeats_to": "(calendars, rule, day, goal)",
+        "round_of": "(calendars, rule, day)", "never_later": "(rule, other)", "same_days": "(rule, other)",
+        "indices_in": "(rule, other)", "counterexample": "(rule, other)", "shows_later": "(rule, other, value)",
+        "normal_rules": "(rules)", "latest_never_later": "(rules, others)", "latest_same": "(rules, others)",
+        "latest_day": "(calendars, rules, day)", "latest_counterexample": "(rules, others)",
     }
     METHODS = {
         "Calendar": ["LONGEST", "is_pattern", "read", "pattern", "is_open", "next_open", "last_open", "with_closed",
@@ -141,6 +153,8 @@ class Interface(unittest.TestCase):
                 self.assertEqual(getattr(module, entry).__module__, f"daychains.{name}")
                 for method in self.METHODS.get(entry, []):
                     self.assertIn(method, vars(getattr(module, entry)))
+                if entry in self.SIGNATURES:
+                    self.assertEqual(str(inspect.signature(getattr(module, entry))), self.SIGNATURES[entry])
 
 
 if __name__ == "__main__":

@@ -5,19 +5,13 @@ import unittest
 
 from daychains.errors import InvalidNumber, InvalidOffice, InvalidRule
 from daychains.rules import is_office, is_rule, joined, offices_in, reduced, working_days
-from values import ANY_VALUES, NO_INTEGERS, NO_LISTS, NO_STRINGS, EqualToAll
+from model import some_rule
+from values import ANY_VALUES, NO_INTEGERS, NO_STRINGS, NOT_RULES
 
 OFFICES = ["a", "z", "ny", "ldn", "abcdefgh", "zzzzzzzz", "open", "day"]
 NO_OFFICES = ["", "+", "abcdefghi", "a" * 3000, "A", "Ny", "n y", " ny", "ny ", "ny\n", "\tny", "n1", "n-y", "n_y",
               "a+", ".", ";", "`", "{", "@", "\u00e9", "n\u00fd", "\u0430"]
 RULES = [[], ["+"], ["ny"], ["ny", "+", "ny"], ["+"] * 200, ["a", "a"], ["abcdefgh"] * 250]
-NO_RULES = [["ny", ""], ["ny", None], [["ny"]], ["ny", ["+"]], ["ny", "++"], ["+ "], ["ny", "Ny"], [1], [True],
-            [b"ny"], [("ny",)], ["ny+"], ["abcdefghi"], ["+"] * 200 + [0], [EqualToAll()], [{}], [{"ny"}]]
-NOT_RULES = NO_RULES + NO_LISTS + ["ny", ("ny",), (), {"ny": "+"}]
-
-
-def some_rule(source, letters="ab+", most=12):
-    return [source.choice(letters) for _ in range(source.randint(0, most))]
 
 
 class Judges(unittest.TestCase):

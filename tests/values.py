@@ -49,3 +49,20 @@ ANY_VALUES = ODD_VALUES + STRINGS + INTEGERS + TUPLES + LISTS
 NO_INTEGERS = ODD_VALUES + STRINGS + TUPLES + LISTS
 NO_STRINGS = ODD_VALUES + INTEGERS + TUPLES + LISTS
 NO_LISTS = ODD_VALUES + STRINGS + INTEGERS + TUPLES
+
+NO_RULES = [["ny", ""], ["ny", None], [["ny"]], ["ny", ["+"]], ["ny", "++"], ["+ "], ["ny", "Ny"], [1], [True],
+            [b"ny"], [("ny",)], ["ny+"], ["abcdefghi"], ["+"] * 200 + [0], [EqualToAll()], [{}], [{"ny"}]]
+NOT_RULES = NO_RULES + NO_LISTS + ["ny", ("ny",), (), {"ny": "+"}]
+
+# Lists, but not of one or more rules; and all that is no list.
+NOT_LISTS_OF_RULES = [[]] + [[value] for value in NOT_RULES] + [[["ny"], value] for value in NOT_RULES]
+NOT_LISTS_OF_RULES += NO_LISTS + [["ny"], ["ny", "+"], (["ny"],), "ny", {"ny": ["ny"]}]
+
+NO_CALENDARS = [{"ny": None}, {"ny": "o"}, {"ny": ("o", (), ())}, {"ny": {}}, {"ny": [Calendar("o")]}, {"ny": Calendar},
+                {"NY": Calendar("o")}, {"": Calendar("o")}, {"+": Calendar("o")}, {"abcdefghi": Calendar("o")},
+                {1: Calendar("o")}, {None: Calendar("o")}, {True: Calendar("o")}, {b"ny": Calendar("o")},
+                {("ny",): Calendar("o")}, {"ny": Calendar("o"), "ldn": None},
+                {"ny": Calendar("o"), "l n": Calendar("o")}, {"ny": EqualToAll()},
+                [("ny", Calendar("o"))], (("ny", Calendar("o")),), [{"ny": Calendar("o")}],
+                Calendar("o"), {"ny"}, "ny", {"ny": Calendar("o")}.items()]
+NOT_CALENDARS = NO_CALENDARS + [value for value in ANY_VALUES if not isinstance(value, dict) or len(value) > 0]
