@@ -78,6 +78,14 @@ def small_pairs(seed, number):
         yield both(some_pattern(source), closed, opened)
 
 
+def small_offices(seed, number, letters="abc"):
+    """Yield dicts of calendars and of their models."""
+    pairs = list(small_pairs(seed, number * len(letters)))
+    for at in range(number):
+        chosen = dict(zip(letters, pairs[at * len(letters):]))
+        yield {key: pair[0] for key, pair in chosen.items()}, {key: pair[1] for key, pair in chosen.items()}
+
+
 def far_pairs(seed, number):
     """Yield calendars with their models, whose up to 200 and 200 stretches are long and far away."""
     source = random.Random(seed)

@@ -4,12 +4,15 @@ import doctest
 import pathlib
 import unittest
 
+from daychains.bounds import count_below, index_below, longest_below, nth_below, shortest_above
 from daychains.calendars import Calendar
 from daychains.errors import ParseError
 from daychains.latest import latest_never_later, latest_same, normal_rules
+from daychains.meetings import fewest_moves, needed_days, next_common, shows_needed
 from daychains.moves import moved, repeated, repeats_to, round_of, stops
 from daychains.order import counterexample, indices_in, never_later, same_days, shows_later
 from daychains.rules import is_office, is_rule, joined, offices_in, reduced, working_days
+from daychains.starts import latest_start, start_days
 
 
 class Examples(unittest.TestCase):
@@ -63,6 +66,28 @@ class Examples(unittest.TestCase):
         self.assertEqual([normal_rules([["a"], ["a", "b"], ["b", "a"], ["b"]]),
                           latest_never_later([["a"], ["b"]], [["a", "b"]])], [[["a", "b"], ["b", "a"]], True])
         self.assertEqual(latest_same([["a", "b"], ["b"]], [["a", "b", "b"]]), True)
+
+    def test_bounds(self):
+        self.assertEqual([longest_below(["a", "b", "c"], ["b", "c", "a"]),
+                          longest_below(["a", "b", "a"], ["a", "c", "a"]),
+                          len(shortest_above(["a", "b"], ["b", "a"]))], [["b", "c"], ["a"], 3])
+
+    def test_numbered_rules(self):
+        self.assertEqual([count_below(["a", "b", "a"], 2), nth_below(["a", "b", "a"], 2, 1),
+                          index_below(["a", "b", "a"], ["b", "a"]), count_below(["a"], 5)], [2, ["b", "a"], 1, 0])
+
+    def test_meetings(self):
+        offices = {"a": Calendar("o", closed=[(0, 4)]), "b": Calendar("o", closed=[(2, 6)]),
+                   "c": Calendar("o", closed=[(5, 9)])}
+        self.assertEqual([next_common(offices, 0), fewest_moves(offices, 0), len(needed_days(offices, 0)),
+                          shows_needed(offices, 0, [0, 5]), shows_needed(offices, 0, [0, 3])],
+                         [10, ["a", "c"], 2, True, False])
+
+    def test_starts(self):
+        offices = {"ny": Calendar("ooooo--")}
+        rule = ["ny", "+", "ny"]
+        self.assertEqual([latest_start(offices, rule, 7), start_days(offices, rule, 7), start_days(offices, rule, 8),
+                          start_days(offices, rule, 5)], [4, (4, 4), (5, 7), None])
 
     def test_readme(self):
         readme = pathlib.Path(__file__).resolve().parent.parent / "README.md"

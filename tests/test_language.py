@@ -132,6 +132,9 @@ class Interface(unittest.TestCase):
         "moves": ["moved", "stops", "repeated", "repeats_to", "round_of"],
         "order": ["never_later", "same_days", "indices_in", "counterexample", "shows_later"],
         "latest": ["normal_rules", "latest_never_later", "latest_same", "latest_day", "latest_counterexample"],
+        "bounds": ["longest_below", "shortest_above", "count_below", "nth_below", "index_below"],
+        "meetings": ["next_common", "fewest_moves", "needed_days", "shows_needed"],
+        "starts": ["latest_start", "start_days"],
     }
     SIGNATURES = {
         "moved": "(calendars, rule, day)", "stops": "(calendars, rule, day)",
@@ -140,6 +143,11 @@ class Interface(unittest.TestCase):
         "indices_in": "(rule, other)", "counterexample": "(rule, other)", "shows_later": "(rule, other, value)",
         "normal_rules": "(rules)", "latest_never_later": "(rules, others)", "latest_same": "(rules, others)",
         "latest_day": "(calendars, rules, day)", "latest_counterexample": "(rules, others)",
+        "longest_below": "(rule, other)", "shortest_above": "(rule, other)", "count_below": "(rule, size)",
+        "nth_below": "(rule, size, number)", "index_below": "(rule, below)",
+        "next_common": "(calendars, day, *offices)", "fewest_moves": "(calendars, day, *offices)",
+        "needed_days": "(calendars, day, *offices)", "shows_needed": "(calendars, day, value, *offices)",
+        "latest_start": "(calendars, rule, day)", "start_days": "(calendars, rule, day)",
     }
     METHODS = {
         "Calendar": ["LONGEST", "is_pattern", "read", "pattern", "is_open", "next_open", "last_open", "with_closed",

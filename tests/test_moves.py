@@ -7,7 +7,7 @@ import unittest
 from daychains.calendars import Calendar
 from daychains.errors import InvalidCalendars, InvalidDay, InvalidNumber, InvalidRule, UnknownOffice
 from daychains.moves import moved, repeated, repeats_to, round_of, stops
-from model import FAR, both, days_about, far_pairs, small_pairs, some_rule, walked
+from model import FAR, both, days_about, far_pairs, small_offices, some_rule, walked
 from values import NO_INTEGERS, NOT_CALENDARS, NOT_RULES
 
 OFFICES = {"ny": Calendar("ooooo--"), "ldn": Calendar("ooooo--", closed=[(7, 7)])}
@@ -25,14 +25,6 @@ FUNCTIONS = [
     lambda calendars, rule, day: repeats_to(calendars, rule, day, 3),
     round_of,
 ]
-
-
-def small_offices(seed, number, letters="abc"):
-    """Yield dicts of calendars and of their models."""
-    pairs = list(small_pairs(seed, number * len(letters)))
-    for at in range(number):
-        chosen = dict(zip(letters, pairs[at * len(letters):]))
-        yield {key: pair[0] for key, pair in chosen.items()}, {key: pair[1] for key, pair in chosen.items()}
 
 
 class Moved(unittest.TestCase):
