@@ -30,6 +30,12 @@ def check_rules(value):
         raise InvalidRules("rules are a list of one or more rules")
 
 
+def check_office(calendars, value):
+    """Raise UnknownOffice for a value that is not an office of the calendars."""
+    if not is_office(value) or value not in calendars:
+        raise UnknownOffice(value)
+
+
 def check_offices(calendars, rule):
     """Raise UnknownOffice for the first office of the rule that is not in the calendars."""
     for letter in rule:

@@ -1,10 +1,9 @@
 """Meetings: the next day on which all offices are open, the fewest moves to it, and days that show that many needed."""
 
-from daychains.checks import check_calendars
+from daychains.checks import check_calendars, check_office
 from daychains.commons import first_common
-from daychains.errors import NoCommonDay, TooMany, UnknownOffice
+from daychains.errors import NoCommonDay, TooMany
 from daychains.integers import check_day, is_integer
-from daychains.rules import is_office
 
 MOST_LETTERS = 400
 
@@ -45,8 +44,7 @@ def _meant(calendars, day, offices):
     check_calendars(calendars)
     check_day(day)
     for office in offices:
-        if not is_office(office) or office not in calendars:
-            raise UnknownOffice(office)
+        check_office(calendars, office)
     # Equal dicts may have their offices in another order.
     return list(offices) if offices else sorted(calendars)
 

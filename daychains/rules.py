@@ -13,9 +13,14 @@ def is_office(value):
     return all([sign in SMALL_LETTERS for sign in value])
 
 
+def is_letter(value):
+    """Return whether the value is an office or `+`."""
+    return isinstance(value, str) and (value == "+" or is_office(value))
+
+
 def is_rule(value):
     """Return whether the value is a rule."""
-    return isinstance(value, list) and all([_is_letter(entry) for entry in value])
+    return isinstance(value, list) and all([is_letter(entry) for entry in value])
 
 
 def check_rule(value):
@@ -55,8 +60,3 @@ def working_days(office, count):
     if not is_number_to(count, 99):
         raise InvalidNumber("the number of working days is an integer from 0 to 99")
     return [office] + ["+", office] * count
-
-
-def _is_letter(value):
-    """Return whether the value is an office or `+`."""
-    return isinstance(value, str) and (value == "+" or is_office(value))

@@ -3,6 +3,7 @@
 from daychains.errors import ParseError
 
 DIGITS = "0123456789"
+PART = 10 ** 18
 
 
 def words_of(text):
@@ -27,6 +28,18 @@ def read_integer(word):
     for digit in word.removeprefix("-"):
         number = 10 * number + DIGITS.index(digit)
     return -number if word.startswith("-") else number
+
+
+def written_integer(number):
+    """Return the integer in the notation."""
+    # `str` refuses an integer of very many digits.
+    digits = ""
+    left = abs(number)
+    while left >= PART:
+        left, low = divmod(left, PART)
+        digits = str(low).zfill(18) + digits
+    sign = "-" if number < 0 else ""
+    return sign + str(left) + digits
 
 
 def day_at(words, at):

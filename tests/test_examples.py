@@ -6,10 +6,14 @@ import unittest
 
 from daychains.bounds import count_below, index_below, longest_below, nth_below, shortest_above
 from daychains.calendars import Calendar
+from daychains.console import Console
+from daychains.desks import Desk, LimitedCounter
 from daychains.errors import ParseError
 from daychains.latest import latest_never_later, latest_same, normal_rules
+from daychains.logs import day_range, find_clash, known_state
 from daychains.meetings import fewest_moves, needed_days, next_common, shows_needed
 from daychains.moves import moved, repeated, repeats_to, round_of, stops
+from daychains.notation import format_calendar, format_rule, parse_calendar, parse_rule
 from daychains.order import counterexample, indices_in, never_later, same_days, shows_later
 from daychains.rules import is_office, is_rule, joined, offices_in, reduced, working_days
 from daychains.starts import latest_start, start_days
@@ -38,9 +42,10 @@ class Examples(unittest.TestCase):
         self.assertEqual(Calendar.read("ooooo-- closed 7 7 opened -3 5"),
                          Calendar("ooooo--", closed=[(7, 7)], opened=[(-3, 5)]))
         for text in ["ooooo-- closed 7", "o closed 7 5"]:
-            with self.assertRaises(ParseError) as caught:
-                Calendar.read(text)
-            self.assertEqual(caught.exception.index, 3)
+            for function in (Calendar.read, parse_calendar):
+                with self.assertRaises(ParseError) as caught:
+                    function(text)
+                self.assertEqual(caught.exception.index, 3)
 
     def test_moves(self):
         offices = {"ny": Calendar("ooooo--"), "ldn": Calendar("ooooo--", closed=[(7, 7)])}
@@ -88,6 +93,34 @@ class Examples(unittest.TestCase):
         rule = ["ny", "+", "ny"]
         self.assertEqual([latest_start(offices, rule, 7), start_days(offices, rule, 7), start_days(offices, rule, 8),
                           start_days(offices, rule, 5)], [4, (4, 4), (5, 7), None])
+
+    def test_logs(self):
+        log = [("ny", 5, 7), ("ny", 3, 3)]
+        self.assertEqual([known_state(log, "ny", 6), known_state(log, "ny", 4), day_range(log, ["ny", "+", "ny"], 4),
+                          day_range(log, ["ny"], 5)], ["closed", "free", (7, None), (7, 7)])
+        self.assertEqual(find_clash([("ny", 5, 7), ("ldn", 6, 6), ("ny", 6, 6)]), (0, 2))
+
+    def test_desks(self):
+        desk = Desk(4, ny=Calendar("ooooo--"))
+        first = desk.move("ny", "+", "ny")
+        desk.close_office("ny", 8, 9)
+        self.assertEqual([first, desk.move("+", "ny"), list(desk.days()), len(desk)], [7, 10, [4, 7, 7, 10], 3])
+        counter = LimitedCounter(5, limit=3, ny=Calendar("ooooo--"))
+        self.assertEqual([counter.move("ny"), counter.told()], [7, ["day 7", "offices 1", "moved 2", "limit 3"]])
+
+    def test_notation(self):
+        self.assertEqual([format_rule(["ny", "+", "ny"]), format_rule([]), parse_rule("ny + ldn"),
+                          format_calendar("ooooo--", closed=[(7, 7)], opened=[(-3, 5)])],
+                         ["ny + ny", ".", ["ny", "+", "ldn"], "ooooo-- closed 7 7 opened -3 5"])
+
+    def test_console(self):
+        console = Console()
+        answers = [console.execute("office ny ooooo--"), console.execute("day 4"), console.execute("where ny + ny")]
+        answers += [console.execute("common"), console.execute("compare ny ; + ny"), console.execute("start ny + ny")]
+        self.assertEqual(answers, ["ok", "ok", "7", "4", "never later", "3"])
+        with self.assertRaises(ParseError) as caught:
+            Console().execute("compare ; ny")
+        self.assertEqual(caught.exception.index, 0)
 
     def test_readme(self):
         readme = pathlib.Path(__file__).resolve().parent.parent / "README.md"

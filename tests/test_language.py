@@ -135,6 +135,13 @@ class Interface(unittest.TestCase):
         "bounds": ["longest_below", "shortest_above", "count_below", "nth_below", "index_below"],
         "meetings": ["next_common", "fewest_moves", "needed_days", "shows_needed"],
         "starts": ["latest_start", "start_days"],
+        "logs": ["find_clash", "known_state", "day_range"],
+        "desks": ["Desk", "Counter", "Limited", "LimitedCounter"],
+        "notation": ["format_rule", "parse_rule", "format_calendar", "parse_calendar"],
+        "console": ["Console"],
+        "errors": ["DayError", "InvalidPattern", "InvalidStretches", "InvalidDay", "InvalidNumber", "InvalidOffice",
+                   "InvalidRule", "InvalidRules", "InvalidCalendars", "InvalidLog", "InvalidCommand", "NotBelow",
+                   "NoCommonDay", "NothingToUndo", "TooFar", "UnknownOffice", "LogClash", "TooMany", "ParseError"],
     }
     SIGNATURES = {
         "moved": "(calendars, rule, day)", "stops": "(calendars, rule, day)",
@@ -148,10 +155,37 @@ class Interface(unittest.TestCase):
         "next_common": "(calendars, day, *offices)", "fewest_moves": "(calendars, day, *offices)",
         "needed_days": "(calendars, day, *offices)", "shows_needed": "(calendars, day, value, *offices)",
         "latest_start": "(calendars, rule, day)", "start_days": "(calendars, rule, day)",
+        "find_clash": "(log)", "known_state": "(log, office, day)", "day_range": "(log, rule, day)",
+        "format_rule": "(rule)", "parse_rule": "(text)", "parse_calendar": "(text)",
+        "format_calendar": "(pattern, *, closed=(), opened=())",
+        "is_office": "(value)", "is_rule": "(value)", "reduced": "(rule)", "offices_in": "(rule)",
+        "joined": "(*rules)", "working_days": "(office, count)",
+        "Calendar": "(pattern, *, closed=(), opened=())", "Console": "()", "Desk": "(day, **offices)",
+        "Counter": "(day, **offices)", "Limited": "(day, *, limit=10, **offices)",
+        "LimitedCounter": "(day, *, limit=10, **offices)", "UnknownOffice": "(office)", "LogClash": "(first, second)",
+        "TooMany": "(limit)", "ParseError": "(index=None)",
     }
     METHODS = {
         "Calendar": ["LONGEST", "is_pattern", "read", "pattern", "is_open", "next_open", "last_open", "with_closed",
                      "with_opened", "nth_open", "count_open", "open_days", "__eq__"],
+        "Desk": ["__init__", "day", "go_to", "calendars", "move", "close_office", "open_office", "undo", "trial",
+                 "days", "told", "__len__", "__eq__"],
+        "Counter": ["__init__", "moved_days", "told"],
+        "Limited": ["__init__", "move", "told"],
+        "LimitedCounter": ["__init__", "move", "moved_days", "told"],
+        "Console": ["__init__", "execute"],
+    }
+    METHOD_SIGNATURES = {
+        ("Calendar", "is_open"): "(self, day)", ("Calendar", "next_open"): "(self, day)",
+        ("Calendar", "last_open"): "(self, day)", ("Calendar", "with_closed"): "(self, first, last)",
+        ("Calendar", "with_opened"): "(self, first, last)", ("Calendar", "nth_open"): "(self, day, number)",
+        ("Calendar", "count_open"): "(self, first, last)", ("Calendar", "open_days"): "(self, day)",
+        ("Calendar", "is_pattern"): "(value)", ("Calendar", "read"): "(text)",
+        ("Desk", "go_to"): "(self, day)", ("Desk", "move"): "(self, *letters)", ("Desk", "undo"): "(self)",
+        ("Desk", "close_office"): "(self, office, first, last)", ("Desk", "trial"): "(self, *rules)",
+        ("Desk", "open_office"): "(self, office, first, last)", ("Desk", "days"): "(self)", ("Desk", "told"): "(self)",
+        ("Limited", "move"): "(self, *letters)", ("LimitedCounter", "move"): "(self, *letters)",
+        ("Console", "execute"): "(self, command)",
     }
 
     def test_names(self):
@@ -163,6 +197,16 @@ class Interface(unittest.TestCase):
                     self.assertIn(method, vars(getattr(module, entry)))
                 if entry in self.SIGNATURES:
                     self.assertEqual(str(inspect.signature(getattr(module, entry))), self.SIGNATURES[entry])
+
+    def test_methods(self):
+        homes = {entry: name for name, listed in self.LISTED.items() for entry in listed}
+        for (owner, method), signature in self.METHOD_SIGNATURES.items():
+            kind = getattr(importlib.import_module(f"daychains.{homes[owner]}"), owner)
+            self.assertEqual(str(inspect.signature(getattr(kind, method))), signature)
+        for owner in ("Desk", "Counter", "Limited", "LimitedCounter"):
+            kind = getattr(importlib.import_module("daychains.desks"), owner)
+            for name in ("day", "calendars"):
+                self.assertIsInstance(inspect.getattr_static(kind, name), property)
 
 
 if __name__ == "__main__":
